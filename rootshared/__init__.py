@@ -1,0 +1,1 @@
+"""Rootshared: agreeing in rounds in which some are not heard."""

@@ -1,0 +1,1 @@
+"""Webs and pools."""

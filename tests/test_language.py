@@ -1,0 +1,161 @@
+"""Those rules of the language that can be seen from the text of a file of the package."""
+
+import ast
+import builtins
+import unittest
+from pathlib import Path
+
+TOP = Path(__file__).resolve().parent.parent
+PACKAGE = TOP / "rootshared"
+
+BUILTINS = set("""
+len range enumerate zip min max sum abs sorted reversed int str bool bytes list tuple dict set frozenset isinstance
+ord repr any all divmod pow getattr hasattr setattr iter next map super property staticmethod classmethod object float
+Exception ValueError TypeError KeyError IndexError LookupError ZeroDivisionError ArithmeticError OverflowError
+RuntimeError NotImplementedError AttributeError StopIteration NotImplemented True False None
+""".split())
+LIBRARY = {
+    "heapq": "heappush heappop heapify heapreplace heappushpop", "math": "gcd lcm isqrt comb perm factorial",
+    "itertools": "chain accumulate pairwise islice zip_longest", "collections": "defaultdict",
+    "__future__": "annotations",
+}
+NOWHERE = set("register mro elements open input law version_info with_traceback add_note".split())
+SIGNS = set("""
+init eq repr str len enter exit call iter lt le gt ge ne add sub mul floordiv mod pow and or xor lshift rshift radd rsub
+rmul rfloordiv rmod rand ror rxor rlshift rrshift iadd isub imul ifloordiv imod ipow iand ior ixor ilshift irshift neg
+pos invert abs bool contains getitem setitem
+""".split())
+BARRED = (ast.AsyncFunctionDef, ast.AsyncFor, ast.AsyncWith, ast.Await, ast.Global, ast.Div)
+TAKING_LISTS = ("any", "all", "min", "max", "sum", "sorted")
+
+
+def files():
+    return sorted(path for path in PACKAGE.rglob("*") if path.is_file() and "__pycache__" not in path.parts)
+
+
+def trees():
+    return [(path, ast.parse(path.read_text(encoding="utf-8"))) for path in files()]
+
+
+def module_path(name):
+    """The file of a module by its full name."""
+    path = TOP.joinpath(*name.split("."))
+    return path / "__init__.py" if path.is_dir() else path.with_suffix(".py")
+
+
+def imports_of(tree):
+    return [node for node in ast.walk(tree) if isinstance(node, (ast.Import, ast.ImportFrom))]
+
+
+def bound_names(tree):
+    """The names that are defined or assigned at module level, without those of imports."""
+    names = []
+    for node in tree.body:
+        if isinstance(node, (ast.FunctionDef, ast.ClassDef)):
+            names.append(node.name)
+        elif isinstance(node, ast.Assign):
+            names.extend(target.id for target in node.targets)
+    return names
+
+
+class Language(unittest.TestCase):
+    def test_files(self):
+        for path in files():
+            self.assertEqual(path.suffix, ".py", path)
+            self.assertRegex(path.stem, "^[a-z0-9_]+$")
+            self.assertTrue((path.parent / "__init__.py").is_file(), path)
+            text = path.read_text(encoding="ascii")
+            self.assertTrue(all(" " <= sign <= "~" or sign == "\n" for sign in text), path)
+            self.assertLessEqual(len(text.splitlines()), 399, path)
+            for line in text.splitlines():
+                self.assertLessEqual(len(line), 120, path)
+
+    def test_functions_are_small(self):
+        for path, tree in trees():
+            for node in ast.walk(tree):
+                if isinstance(node, ast.FunctionDef):
+                    self.assertLessEqual(node.end_lineno - node.lineno + 1, 40, (path, node.name))
+
+    def test_imports_name_the_files_that_define_what_is_imported(self):
+        for path, tree in trees():
+            for node in imports_of(tree):
+                where = (path, node.lineno)
+                self.assertIsInstance(node, ast.ImportFrom, where)
+                self.assertIn(node, tree.body, where)
+                self.assertEqual(node.level, 0, where)
+                names = [alias.name for alias in node.names]
+                if node.module in LIBRARY:
+                    self.assertLessEqual(set(names), set(LIBRARY[node.module].split()), where)
+                else:
+                    self.assertEqual(node.module.split(".")[0], "rootshared", where)
+                    defined = bound_names(ast.parse(module_path(node.module).read_text()))
+                    self.assertLessEqual(set(names), set(defined), where)
+
+    def test_imports_go_in_no_circle(self):
+        needs = {}
+        for path, tree in trees():
+            found = [module_path(node.module) for node in imports_of(tree) if node.module not in LIBRARY]
+            above = [parent / "__init__.py" for other in found for parent in other.parents if PACKAGE in
+                     (parent, *parent.parents)]
+            needs[path] = set(found + above)
+        done = set()
+        while len(done) < len(needs):
+            ready = {path for path, wanted in needs.items() if path not in done and wanted <= done}
+            self.assertTrue(ready, "imports go in a circle")
+            done |= ready
+
+    def test_names_are_bound_once_at_module_level(self):
+        for path, tree in trees():
+            names = bound_names(tree)
+            for node in imports_of(tree):
+                names.extend(alias.asname or alias.name for alias in node.names)
+            self.assertEqual(sorted(names), sorted(set(names)), path)
+
+    def test_module_level_holds_definitions_and_plain_values_alone(self):
+        let = (ast.ImportFrom, ast.FunctionDef, ast.ClassDef, ast.Assign)
+        for path, tree in trees():
+            self.assertIsInstance(ast.get_docstring(tree), str, path)
+            for node in tree.body[1:]:
+                self.assertIsInstance(node, let, (path, node.lineno))
+
+    def test_nodes_and_names(self):
+        for path, tree in trees():
+            for node in ast.walk(tree):
+                where = (path, getattr(node, "lineno", None))
+                self.assertNotIsInstance(node, BARRED, where)
+                self.check_node(node, where)
+
+    def check_node(self, node, where):
+        if isinstance(node, ast.Name):
+            self.assertTrue(node.id in BUILTINS or not hasattr(builtins, node.id), where)
+            self.assertFalse(node.id in BUILTINS and isinstance(node.ctx, ast.Store), where)
+            self.assertNotIn(node.id, NOWHERE, where)
+        elif isinstance(node, ast.arg):
+            self.assertFalse(hasattr(builtins, node.arg), where)
+            self.assertNotIn(node.arg, NOWHERE, where)
+        elif isinstance(node, ast.Attribute):
+            self.assertNotIn(node.attr, NOWHERE, where)
+        elif isinstance(node, ast.Constant):
+            self.assertNotIsInstance(node.value, (float, complex), where)
+            self.assertFalse(isinstance(node.value, str) and "%" in node.value, where)
+        elif isinstance(node, ast.Raise) and node.exc is not None:
+            self.assertTrue(isinstance(node.exc, ast.Call) and isinstance(node.exc.func, ast.Name), where)
+        elif isinstance(node, ast.Call) and isinstance(node.func, ast.Name) and node.func.id in TAKING_LISTS:
+            # The package has classes with an `__eq__`, so these take lists.
+            self.assertFalse(any(isinstance(given, ast.GeneratorExp) for given in node.args), where)
+        elif isinstance(node, ast.FunctionDef):
+            self.check_function(node, where)
+
+    def check_function(self, node, where):
+        if node.name.startswith("__"):
+            self.assertIn(node.name.strip("_"), SIGNS, where)
+        else:
+            self.assertNotIn(node.name, NOWHERE, where)
+            self.assertNotIn(node.name, BUILTINS, where)
+        for mark in node.decorator_list:
+            plain = isinstance(mark, ast.Name) and mark.id in ("property", "staticmethod", "classmethod")
+            self.assertTrue(plain or isinstance(mark, ast.Attribute) and mark.attr == "setter", where)
+
+
+if __name__ == "__main__":
+    unittest.main()
