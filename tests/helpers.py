@@ -7,6 +7,8 @@ import unittest
 from rootshared.base.pools import Pool
 from rootshared.base.webs import Web
 from rootshared.errors import InvalidNumber
+from rootshared.groups.groups import Sieve
+from rootshared.words.words import Hearsay
 
 RIGHT = Web(((), (0,)))
 LEFT = Web(((1,), ()))
@@ -37,7 +39,8 @@ def odd_values():
     deep = [nested(8, lambda value: (value,)), nested(8, lambda value: [value]), nested(8, lambda value: {0: value})]
     webs = [Web(((),)), Web(((), (0,))), Web(((2,), (), (0,))), Web(((1, 2, 3, 4), (), (), (), ()))]
     pools = [Pool((Web(((),)),)), Pool((RIGHT, LEFT)), Pool((Web(((), (), (0,))),))]
-    return [None, True, False, *numbers, *texts, *tuples, *lists, *dicts, *deep, *webs, *pools, InvalidNumber(3)]
+    made = [Sieve(LINE), Hearsay(LINE), InvalidNumber(3)]
+    return [None, True, False, *numbers, *texts, *tuples, *lists, *dicts, *deep, *webs, *pools, *made]
 
 
 def is_number(value, least, most):
@@ -65,6 +68,41 @@ def wrong_orders(many):
 def wrong_webs(size):
     """The odd values that are no webs with so many houses."""
     return [value for value in odd_values() if not (isinstance(value, Web) and len(value.heard) == size)]
+
+
+def wrong_pools():
+    """The odd values, and others near a pool, that are none."""
+    return [value for value in odd_values() if not isinstance(value, Pool)] + [LINE.webs, list(LINE.webs), [LINE]]
+
+
+def is_index_row(value, many):
+    """Whether the value is a tuple of indices of so many things."""
+    return isinstance(value, tuple) and all(is_number(index, 0, many - 1) for index in value)
+
+
+def wrong_rows(many):
+    """The odd values, and others near a tuple of indices of so many things, that are none."""
+    near = [(many,), (-1,), (0, many), (0, -1, 0), (True,), (0, False), [0], [0, 0], {0: 0}, "0", (0, "0"), (0, None)]
+    near.extend([(0, (0,)), ((0,),), (0, [0]), (HUNDRED_DIGITS,), (0, SIXTY_DIGITS + 1), (0,) * 12 + (many,), (LINE,)])
+    return [value for value in near + odd_values() if not is_index_row(value, many)]
+
+
+def wrong_groups(pool):
+    """Values that are no groups of the pool."""
+    many = len(pool.webs)
+    near = [(), (0, 0), (0,) * many, (many - 1, 0), tuple(range(many + 1)), tuple(range(many))[::-1]]
+    right = {repr(row) for length in range(1, many + 1) for row in itertools.combinations(range(many), length)}
+    return [value for value in near + odd_values() + wrong_rows(many) if repr(value) not in right]
+
+
+def wrong_words(pool):
+    """Values that are no words of the pool with at most 12 webs."""
+    return wrong_rows(len(pool.webs)) + [(0,) * 13, (0,) * 14, (0,) * 500, (len(pool.webs) - 1,) * 13]
+
+
+def wrong_undos():
+    """The odd values that are no integers of at least 0."""
+    return wrong_numbers(0, SIXTY_DIGITS)
 
 
 def all_heard(size, step=1):
@@ -140,6 +178,30 @@ class Checks(unittest.TestCase):
         """The call is refused for the number, which the error keeps itself."""
         self.assertIs(self.refused(InvalidNumber, call, *arguments).given, value)
 
+    def check_refusals(self, call, good, kinds):
+        """Each wrong value is refused in the place of its argument, and of several wrong ones the first is.
+
+        `kinds` has for each argument of the good call the error and the wrong values, or None if all values are let.
+        """
+        judged = [at for at, kind in enumerate(kinds) if kind is not None]
+        for at in judged:
+            for value in kinds[at][1]:
+                self.check_wrong(call, good, kinds, {at: value})
+        for one, other in itertools.combinations(judged, 2):
+            for step in range(max(len(kinds[one][1]), len(kinds[other][1]))):
+                values = {at: kinds[at][1][step * leap % len(kinds[at][1])] for at, leap in ((one, 1), (other, 7))}
+                self.check_wrong(call, good, kinds, values)
+        for step in range(50):
+            values = {at: kinds[at][1][step * (at + 1) % len(kinds[at][1])] for at in judged}
+            self.check_wrong(call, good, kinds, values)
+
+    def check_wrong(self, call, good, kinds, values):
+        given = [values.get(at, value) for at, value in enumerate(good)]
+        first = min(values)
+        error = self.refused(kinds[first][0], call, *given)
+        if kinds[first][0] is InvalidNumber:
+            self.assertIs(error.given, values[first])
+
     def same(self, one, other):
         """Both values are equal, and of equal kinds throughout."""
         self.assertEqual(repr_of(one), repr_of(other))
@@ -155,6 +217,6 @@ def repr_of(value):
         return f"{value.__class__.__name__}({', '.join(repr_of(item) for item in value)})"
     if isinstance(value, dict):
         return f"dict({repr_of(list(value.items()))})"
-    if isinstance(value, InvalidNumber):
-        return f"InvalidNumber({value.given!r})"
+    if value.__class__.__module__.startswith("rootshared"):
+        return f"{value.__class__.__name__}({repr_of(vars(value))})"
     return repr(value)

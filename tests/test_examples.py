@@ -3,8 +3,9 @@
 import doctest
 import unittest
 
-import rootshared.base.pools
-import rootshared.base.webs
+from rootshared.base import pools, webs
+from rootshared.groups import groups, links
+from rootshared.words import words
 
 VALUES = """
 RIGHT = Web(((), (0,)))
@@ -28,11 +29,34 @@ POOLS = """
 [2, (0,), False, True, True]
 """
 
+LINKS = """
+>>> [alike(RIGHT, BOTH, LEFT), alike(RIGHT, BOTH, RIGHT), links_in(LINE, (0, 1, 2)), parts_of(LINE, (0, 2)), parts_of(STARS, (0, 1, 2))]
+[True, False, ((0, 2, 1), (1, 2, 0)), ((0,), (2,)), ((0,), (1,), (2,))]
+>>> [is_linked_way(LINE, (0, 1, 2), (0, 1, 2, 0, 1)), is_linked_way(LINE, (0, 1, 2), (0, 2, 1)), links_in(chain_pool(3), (0, 1, 2))]
+[True, False, ((0, 1, 2), (0, 2, 1), (1, 2, 0))]
+"""
 
-def names():
+GROUPS = """
+>>> [splitting(LINE), closed_groups(STARS), can_agree(LINE), can_agree(LINE.part((0, 2))), common_roots(LINE, (0, 2)), can_agree(muted_pool(3))]
+[(((0, 1, 2),),), ((0,), (1,), (2,)), False, True, (0,), True]
+>>> [is_obstacle(LINE, ((0, 1, 2), ((0, 2, 1), (1, 2, 0)))), is_obstacle(LINE, ((0, 1, 2), ((0, 2, 1),))), is_agreement_paper(LINE.part((0, 2)), (((0, 1),),)), is_obstacle(Pool((silent_web(2),)), ((0,), ()))]
+[True, False, True, True]
+"""
+
+WORDS = """
+>>> [known_inputs(chain_pool(3), (0, 0)), heard_by_all(chain_pool(3), (0, 0)), heard_by_all(STARS, (1,)), first_round(LINE, (1, 0, 2), 0)]
+[((0,), (0, 1), (0, 1, 2)), (0,), (1,), 2]
+>>> [latest(LINE.part((0, 2)), 0), latest(LINE, 0), is_stall(LINE, 0, ((), 1)), latest(Pool((chain_web(4, 0),)), 0), Hearsay(STARS).go(2)]
+[1, None, True, 3, ((0, 2), (1, 2))]
+"""
+
+MODULES = (webs, pools, links, groups, words)
+
+
+def known_names():
     """The names that the examples use."""
     known = {}
-    for module in (rootshared.base.webs, rootshared.base.pools):
+    for module in MODULES:
         known.update(vars(module))
     exec(VALUES, known)
     return known
@@ -40,7 +64,7 @@ def names():
 
 class Examples(unittest.TestCase):
     def check(self, text, many):
-        test = doctest.DocTestParser().get_doctest(text, names(), "examples", None, 0)
+        test = doctest.DocTestParser().get_doctest(text, known_names(), "examples", None, 0)
         told = []
         result = doctest.DocTestRunner(verbose=False).run(test, out=told.append)
         self.assertEqual((result.failed, result.attempted), (0, many), "".join(told))
@@ -50,6 +74,15 @@ class Examples(unittest.TestCase):
 
     def test_pools(self):
         self.check(POOLS, 2)
+
+    def test_links(self):
+        self.check(LINKS, 2)
+
+    def test_groups(self):
+        self.check(GROUPS, 2)
+
+    def test_words(self):
+        self.check(WORDS, 2)
 
 
 if __name__ == "__main__":

@@ -4,24 +4,59 @@ import inspect
 import unittest
 
 from rootshared.base import pools, webs
+from rootshared.groups import groups, links
+from rootshared.words import words
 from tests.helpers import BOTH, LINE
 
-FUNCTIONS = ((webs, "silent_web", ["size"]), (webs, "full_web", ["size"]), (webs, "star_web", ["size", "center"]),
-             (webs, "chain_web", ["size", "first"]), (pools, "star_pool", ["size"]), (pools, "chain_pool", ["size"]),
-             (pools, "muted_pool", ["size"]))
+# A name behind a star is a keyword.
+FUNCTIONS = (
+    (webs, "silent_web", "size"), (webs, "full_web", "size"), (webs, "star_web", "size center"),
+    (webs, "chain_web", "size first"), (pools, "star_pool", "size"), (pools, "chain_pool", "size"),
+    (pools, "muted_pool", "size"),
+    (links, "alike", "one other third"), (links, "links_in", "pool indices"), (links, "is_link", "pool value"),
+    (links, "parts_of", "pool indices"), (links, "linked_way", "pool indices one other"),
+    (links, "is_linked_way", "pool indices value"),
+    (groups, "common_roots", "pool indices"), (groups, "is_closed", "pool indices"), (groups, "splitting", "pool"),
+    (groups, "closed_groups", "pool"), (groups, "can_agree", "pool"), (groups, "obstacle", "pool"),
+    (groups, "is_obstacle", "pool value"), (groups, "agreement_paper", "pool"),
+    (groups, "is_agreement_paper", "pool value"),
+    (words, "is_word", "pool value"), (words, "all_words", "pool rounds"), (words, "known_inputs", "pool word"),
+    (words, "heard_by_all", "pool word"), (words, "product_web", "pool word"),
+    (words, "first_round", "pool word house"), (words, "latest", "pool house"), (words, "stall", "pool house"),
+    (words, "is_stall", "pool house value"),
+)
 
-WEB_METHODS = {"hears": ["house"], "reached": ["house"], "with_hearing": ["house", "other"],
-               "without_hearing": ["house", "other"], "joined": ["other"], "shared": ["other"], "then": ["other"],
-               "is_within": ["other"], "renumbered": ["numbers"]}
-WEB_SIGNS = ("__init__", "__contains__", "__len__", "__eq__", "__str__")
+CLASSES = (
+    (webs, "Web", "heard",
+     {"hears": "house", "reached": "house", "with_hearing": "house other", "without_hearing": "house other",
+      "joined": "other", "shared": "other", "then": "other", "is_within": "other", "renumbered": "numbers"},
+     "__init__ __contains__ __len__ __eq__ __str__"),
+    (pools, "Pool", "webs",
+     {"index_of": "web", "is_group": "value", "with_web": "web", "without": "index", "part": "indices",
+      "reordered": "indices", "renumbered": "numbers"},
+     "__init__ __getitem__ __contains__ __iter__ __len__ __eq__ __str__"),
+    (groups, "Sieve", "pool", {"ban": "index", "let": "index", "undo": "*many=1", "twin": ""},
+     "__init__ __bool__ __len__ __eq__ __str__"),
+    (words, "Hearsay", "pool", {"go": "index", "undo": "*many=1", "twin": ""}, "__init__ __len__ __eq__ __str__"),
+)
 
-POOL_METHODS = {"index_of": ["web"], "is_group": ["value"], "with_web": ["web"], "without": ["index"],
-                "part": ["indices"], "reordered": ["indices"], "renumbered": ["numbers"]}
-POOL_SIGNS = ("__init__", "__getitem__", "__contains__", "__iter__", "__len__", "__eq__", "__str__")
+ATTRIBUTES = (
+    (lambda: webs.Web(((1,), (0,))), "heard size roots parts"),
+    (lambda: pools.Pool((BOTH,)), "webs size roots always"),
+    (lambda: groups.Sieve(LINE), "pool left verdict"),
+    (lambda: words.Hearsay(LINE), "pool word known heralds"),
+)
+
+CONSTANTS = ((pools, "MAX_WEBS", 8), (pools, "MAX_HOUSES", 5), (words, "MAX_ROUNDS", 12))
 
 
 def parameters(call):
-    return list(inspect.signature(call).parameters)
+    """The names of the parameters, keywords with a star and their default value."""
+    told = []
+    for name, given in inspect.signature(call).parameters.items():
+        keyword = given.kind is inspect.Parameter.KEYWORD_ONLY
+        told.append(f"*{name}={given.default}" if keyword else name)
+    return " ".join(told)
 
 
 class Interface(unittest.TestCase):
@@ -30,38 +65,50 @@ class Interface(unittest.TestCase):
             function = getattr(module, name)
             self.assertEqual(parameters(function), wanted, name)
             self.assertEqual(function.__module__, module.__name__, name)
+            self.assertEqual(function.__name__, name)
 
-    def check_class(self, made, module, methods, signs):
-        self.assertEqual(made.__module__, module.__name__)
-        for name in signs:
-            self.assertIn(name, vars(made))
-        for name, wanted in methods.items():
-            self.assertIn(name, vars(made))
-            self.assertEqual(parameters(vars(made)[name])[1:], wanted, name)
+    def test_functions_without_keywords_have_no_default_values(self):
+        for module, name, wanted in FUNCTIONS:
+            for given in inspect.signature(getattr(module, name)).parameters.values():
+                if given.kind is not inspect.Parameter.KEYWORD_ONLY:
+                    self.assertIs(given.default, inspect.Parameter.empty, name)
 
-    def test_web(self):
-        self.check_class(webs.Web, webs, WEB_METHODS, WEB_SIGNS)
-        self.assertEqual(parameters(webs.Web), ["heard"])
-
-    def test_pool(self):
-        self.check_class(pools.Pool, pools, POOL_METHODS, POOL_SIGNS)
-        self.assertEqual(parameters(pools.Pool), ["webs"])
+    def test_classes(self):
+        for module, name, wanted, methods, signs in CLASSES:
+            made = getattr(module, name)
+            self.assertEqual(made.__module__, module.__name__)
+            self.assertEqual(parameters(made), wanted, name)
+            for sign in signs.split():
+                self.assertIn(sign, vars(made), name)
+            for method, row in methods.items():
+                self.assertIn(method, vars(made), name)
+                self.assertEqual(parameters(vars(made)[method]), f"self {row}".strip(), (name, method))
 
     def test_constants(self):
-        self.assertEqual((pools.MAX_WEBS, pools.MAX_HOUSES), (8, 5))
+        for module, name, value in CONSTANTS:
+            self.assertEqual(getattr(module, name), value)
+            self.assertIs(getattr(module, name).__class__, int)
 
     def test_attributes_are_there_from_the_beginning(self):
-        for name in ("heard", "size", "roots", "parts"):
-            self.assertTrue(hasattr(webs.Web(((1,), (0,))), name), name)
-        for name in ("webs", "size", "roots", "always"):
-            self.assertTrue(hasattr(pools.Pool((BOTH,)), name), name)
+        for make, names in ATTRIBUTES:
+            for name in names.split():
+                self.assertTrue(hasattr(make(), name), name)
 
     def test_kinds_of_values(self):
         self.assertIsInstance(BOTH.size, int)
-        for value in (BOTH.heard, BOTH.roots, BOTH.parts, BOTH.parts[0], BOTH.hears(0), BOTH.reached(0)):
+        sieve, hearsay = groups.Sieve(LINE), words.Hearsay(LINE)
+        for value in (BOTH.heard, BOTH.roots, BOTH.parts, BOTH.parts[0], BOTH.hears(0), BOTH.reached(0), LINE.webs, LINE.roots,
+                      LINE.roots[0], LINE.always, sieve.left, hearsay.word, hearsay.known, hearsay.known[0], hearsay.heralds,
+                      hearsay.go(0), hearsay.undo(), links.links_in(LINE, (0, 1, 2)),
+                      links.parts_of(LINE, (0, 2)), links.linked_way(LINE, (0, 1, 2), 0, 2), groups.splitting(LINE),
+                      groups.closed_groups(LINE), groups.obstacle(LINE), groups.agreement_paper(pools.star_pool(3)),
+                      words.known_inputs(LINE, (0,)), words.heard_by_all(LINE, (0,)), words.stall(LINE, 0)):
             self.assertIs(value.__class__, tuple)
-        for value in (LINE.webs, LINE.roots, LINE.roots[0], LINE.always):
-            self.assertIs(value.__class__, tuple)
+        for value in (sieve.verdict, sieve.ban(0), sieve.let(0), sieve.undo(), groups.can_agree(LINE),
+                      groups.is_closed(LINE, (0,)), links.alike(BOTH, BOTH, BOTH)):
+            self.assertIs(value.__class__, bool)
+        for value in (words.latest(LINE.part((0, 2)), 0), words.first_round(LINE, (0,), 0)):
+            self.assertIs(value.__class__, int)
 
 
 if __name__ == "__main__":

@@ -2,6 +2,7 @@
 
 import ast
 import builtins
+import re
 import unittest
 from pathlib import Path
 
@@ -26,6 +27,21 @@ rmul rfloordiv rmod rand ror rxor rlshift rrshift iadd isub imul ifloordiv imod 
 pos invert abs bool contains getitem setitem
 """.split())
 BARRED = (ast.AsyncFunctionDef, ast.AsyncFor, ast.AsyncWith, ast.Await, ast.Global, ast.Div)
+# Words that stand in no name and in no string.
+BARRED_WORDS = set("""
+type typing typing_extensions enum Enum IntEnum StrEnum Flag IntFlag Generic Protocol ABC ABCMeta namedtuple NamedTuple
+TypedDict TYPE_CHECKING abstractmethod dataclass overload contextmanager Meta
+""".split())
+# Methods of builtin values, without those of bytes.
+METHODS = set("""
+append clear copy count endswith extend find get index insert isalnum isalpha isdigit islower isspace isupper items join
+keys ljust lower lstrip partition pop remove replace reverse rfind rjust rpartition rsplit rstrip setdefault split
+splitlines startswith strip update upper values zfill bit_length title capitalize swapcase casefold center expandtabs
+removeprefix removesuffix rindex isascii isdecimal isnumeric istitle isidentifier isprintable translate sort add discard
+""".split())
+KEYWORDS = {"sorted": {"key", "reverse"}, "min": {"key", "default"}, "max": {"key", "default"}, "sum": {"start"},
+            "enumerate": {"start"}, "zip": {"strict"}}
+LOOPS = (ast.For, ast.comprehension)
 TAKING_LISTS = ("any", "all", "min", "max", "sum", "sorted")
 
 
@@ -126,7 +142,9 @@ class Language(unittest.TestCase):
                 self.check_node(node, where)
 
     def check_node(self, node, where):
-        if isinstance(node, ast.Name):
+        if isinstance(node, ast.Name) and node.id == "_":
+            self.assertIsInstance(node.ctx, ast.Store, where)
+        elif isinstance(node, ast.Name):
             self.assertTrue(node.id in BUILTINS or not hasattr(builtins, node.id), where)
             self.assertFalse(node.id in BUILTINS and isinstance(node.ctx, ast.Store), where)
             self.assertNotIn(node.id, NOWHERE, where)
@@ -145,6 +163,88 @@ class Language(unittest.TestCase):
             self.assertFalse(any(isinstance(given, ast.GeneratorExp) for given in node.args), where)
         elif isinstance(node, ast.FunctionDef):
             self.check_function(node, where)
+
+    def test_names_of_imports_and_classes_mean_nothing_else(self):
+        for path, tree in trees():
+            taken = {node.name for node in tree.body if isinstance(node, ast.ClassDef)}
+            taken.update(alias.name for node in imports_of(tree) for alias in node.names)
+            for node in ast.walk(tree):
+                where = (path, getattr(node, "lineno", None))
+                if isinstance(node, ast.arg):
+                    self.assertNotIn(node.arg, taken, where)
+                elif isinstance(node, ast.Name) and isinstance(node.ctx, ast.Store):
+                    self.assertNotIn(node.id, taken, where)
+
+    def test_words_that_stand_nowhere(self):
+        for path, tree in trees():
+            documents = {id(node.body[0].value) for node in ast.walk(tree)
+                         if isinstance(node, (ast.Module, ast.ClassDef, ast.FunctionDef)) and ast.get_docstring(node)}
+            for node in ast.walk(tree):
+                told = [getattr(node, name, None) for name in ("id", "attr", "arg", "name")]
+                if isinstance(node, ast.Constant) and isinstance(node.value, str) and id(node) not in documents:
+                    told.extend(re.findall(r"\w+", node.value))
+                self.assertFalse(BARRED_WORDS & {word for word in told if isinstance(word, str)}, (path, node))
+
+    def test_is_stands_beside_none_true_and_false(self):
+        for path, tree in trees():
+            for node in ast.walk(tree):
+                if isinstance(node, ast.Compare) and isinstance(node.ops[0], (ast.Is, ast.IsNot)):
+                    right = node.comparators[0]
+                    self.assertTrue(isinstance(right, ast.Constant) and right.value in (None, True, False), (path, node.lineno))
+
+    def test_sets_stand_behind_in_or_in_len_and_sorted(self):
+        for path, tree in trees():
+            let = set()
+            for node in ast.walk(tree):
+                if isinstance(node, ast.Call) and isinstance(node.func, ast.Name) and node.func.id in ("len", "sorted"):
+                    let.update(id(given) for given in node.args)
+                elif isinstance(node, ast.Compare):
+                    let.update(id(given) for given in node.comparators)
+            for node in ast.walk(tree):
+                named = isinstance(node, ast.Call) and isinstance(node.func, ast.Name) and node.func.id == "set"
+                if named or isinstance(node, (ast.Set, ast.SetComp)):
+                    self.assertIn(id(node), let, (path, node.lineno))
+
+    def test_calls(self):
+        own = {node.name for _, tree in trees() for node in ast.walk(tree) if isinstance(node, ast.FunctionDef)}
+        for path, tree in trees():
+            for node in [node for node in ast.walk(tree) if isinstance(node, ast.Call)]:
+                where = (path, node.lineno)
+                keywords = {keyword.arg for keyword in node.keywords}
+                if isinstance(node.func, ast.Attribute):
+                    self.assertIn(node.func.attr, METHODS | own, where)
+                    self.assertFalse(keywords and node.func.attr in METHODS, where)
+                elif isinstance(node.func, ast.Name) and node.func.id in BUILTINS:
+                    self.assertLessEqual(keywords, KEYWORDS.get(node.func.id, set()), where)
+
+    def test_generators_are_iterated_at_once(self):
+        made = [node.name for _, tree in trees() for node in ast.walk(tree) if isinstance(node, ast.FunctionDef)
+                and any(isinstance(inner, (ast.Yield, ast.YieldFrom)) for inner in ast.walk(node))]
+        for path, tree in trees():
+            let = {id(node.iter) for node in ast.walk(tree) if isinstance(node, LOOPS)}
+            for node in ast.walk(tree):
+                if isinstance(node, ast.Call) and isinstance(node.func, ast.Name) and node.func.id in made:
+                    self.assertIn(id(node), let, (path, node.lineno))
+
+    def test_loops_change_nothing_that_they_iterate_over(self):
+        changing = ("append", "clear", "extend", "insert", "pop", "remove", "reverse", "setdefault", "update", "sort")
+        for path, tree in trees():
+            for loop in [node for node in ast.walk(tree) if isinstance(node, ast.For)]:
+                over = {ast.dump(node) for node in ast.walk(loop.iter) if isinstance(node, (ast.Name, ast.Attribute))}
+                for node in [node for row in loop.body for node in ast.walk(row)]:
+                    if isinstance(node, ast.Call) and isinstance(node.func, ast.Attribute) and node.func.attr in changing:
+                        self.assertNotIn(ast.dump(node.func.value), over, (path, node.lineno))
+                    elif isinstance(node, ast.Subscript) and not isinstance(node.ctx, ast.Load):
+                        self.assertNotIn(ast.dump(node.value).replace("Store()", "Load()"), over, (path, node.lineno))
+
+    def test_operators_and_properties_assign_no_attribute(self):
+        for path, tree in trees():
+            for node in [node for node in ast.walk(tree) if isinstance(node, ast.FunctionDef)]:
+                marked = any(isinstance(mark, ast.Name) and mark.id == "property" for mark in node.decorator_list)
+                if marked or (node.name.startswith("__") and node.name not in ("__init__", "__call__", "__setitem__")):
+                    for inner in ast.walk(node):
+                        changed = isinstance(inner, (ast.Attribute, ast.Subscript)) and not isinstance(inner.ctx, ast.Load)
+                        self.assertFalse(changed, (path, node.lineno))
 
     def check_function(self, node, where):
         if node.name.startswith("__"):

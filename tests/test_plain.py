@@ -3,6 +3,7 @@
 import unittest
 
 from rootshared.base import plain
+from rootshared.errors import NothingToUndo
 from tests.helpers import Checks, HUNDRED_DIGITS, SIXTY_DIGITS, odd_values
 
 
@@ -34,6 +35,14 @@ class Plain(Checks):
         plain.check_index(0, 1)
         self.refused_number(HUNDRED_DIGITS, plain.check_between, HUNDRED_DIGITS, 0, HUNDRED_DIGITS)
         self.refused_number(1, plain.check_index, 1, 1)
+
+    def test_what_can_be_taken_back(self):
+        for many, there in ((0, 0), (0, 3), (3, 3), (SIXTY_DIGITS, HUNDRED_DIGITS)):
+            plain.check_undo(many, there)
+        for many, there in ((1, 0), (4, 3), (SIXTY_DIGITS, 0)):
+            self.assertEqual(self.refused(NothingToUndo, plain.check_undo, many, there).many, many)
+        for many in (-1, True, False, None, "1", SIXTY_DIGITS + 1, HUNDRED_DIGITS):
+            self.refused_number(many, plain.check_undo, many, HUNDRED_DIGITS)
 
 
 if __name__ == "__main__":

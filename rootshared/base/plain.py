@@ -1,6 +1,6 @@
-"""What plain values are: integers, indices, and tuples of indices."""
+"""What plain values are: integers, indices, tuples of indices, and numbers of changes to take back."""
 
-from rootshared.errors import InvalidNumber
+from rootshared.errors import InvalidNumber, NothingToUndo
 
 # The least positive integer that has more than sixty digits.
 TOO_LONG = 10 ** 60
@@ -48,3 +48,11 @@ def check_index(value, many):
     """Refuse what is no index of so many things."""
     if not is_index(value, many):
         raise InvalidNumber(value)
+
+
+def check_undo(many, there):
+    """Refuse to take back what is no number of changes, or more of them than are there."""
+    if not is_plain_integer(many) or many < 0:
+        raise InvalidNumber(many)
+    if many > there:
+        raise NothingToUndo(many)

@@ -69,8 +69,7 @@ class Pool:
 
     def part(self, indices):
         """The pool of the webs of a group."""
-        if not self.is_group(indices):
-            raise InvalidGroup("no ascending tuple of one or more indices of webs")
+        check_group(self, indices)
         return self._chosen(indices)
 
     def reordered(self, indices):
@@ -116,6 +115,24 @@ def are_pool_webs(value):
     if not all([web.size == value[0].size for web in value]):
         return False
     return len(set([web.heard for web in value])) == len(value)
+
+
+def check_pool(value):
+    """Refuse what is no pool."""
+    if not isinstance(value, Pool):
+        raise InvalidPool("no pool")
+
+
+def check_pool_of(value, size):
+    """Refuse what is no pool on so many houses."""
+    if not isinstance(value, Pool) or value.size != size:
+        raise InvalidPool("no pool on so many houses")
+
+
+def check_group(pool, indices):
+    """Refuse what is no group of the pool."""
+    if not pool.is_group(indices):
+        raise InvalidGroup("no ascending tuple of one or more indices of webs")
 
 
 def houses_in_all(size, rows):

@@ -1,0 +1,1 @@
+"""Links and closed groups."""

@@ -1,0 +1,1 @@
+"""Words, views and lots."""
