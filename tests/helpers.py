@@ -8,12 +8,16 @@ from rootshared.base.pools import Pool
 from rootshared.base.webs import Web
 from rootshared.errors import InvalidNumber
 from rootshared.groups.groups import Sieve
+from rootshared.programs.programs import Program
+from rootshared.programs.runs import Run
 from rootshared.words.words import Hearsay
 
 RIGHT = Web(((), (0,)))
 LEFT = Web(((1,), ()))
 BOTH = Web(((1,), (0,)))
 LINE = Pool((RIGHT, LEFT, BOTH))
+TELL = Program(2, 5, ((0, 1), (2, 2)), {(0, (0, None)): 3, (1, (1, None)): 4, (0, (0, 2)): 3, (1, (1, 2)): 4,
+                                        (2, (0, 2)): 3, (2, (1, 2)): 4, (2, (3, 2)): 3, (2, (4, 2)): 4}, {3: 0, 4: 1})
 
 SIXTY_DIGITS = 10 ** 60 - 1
 HUNDRED_DIGITS = 10 ** 100 - 1
@@ -39,7 +43,7 @@ def odd_values():
     deep = [nested(8, lambda value: (value,)), nested(8, lambda value: [value]), nested(8, lambda value: {0: value})]
     webs = [Web(((),)), Web(((), (0,))), Web(((2,), (), (0,))), Web(((1, 2, 3, 4), (), (), (), ()))]
     pools = [Pool((Web(((),)),)), Pool((RIGHT, LEFT)), Pool((Web(((), (), (0,))),))]
-    made = [Sieve(LINE), Hearsay(LINE), InvalidNumber(3)]
+    made = [Sieve(LINE), Hearsay(LINE), TELL.opposite(), Run(TELL, LINE, (1, 0)), InvalidNumber(3)]
     return [None, True, False, *numbers, *texts, *tuples, *lists, *dicts, *deep, *webs, *pools, *made]
 
 

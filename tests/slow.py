@@ -9,6 +9,7 @@ import random
 
 from rootshared.base.pools import Pool, chain_pool, muted_pool, star_pool
 from rootshared.base.webs import Web, silent_web
+from rootshared.programs.programs import Program
 from tests.helpers import LINE, all_heard, slow_roots
 
 # Webs 0 and 1 are alike for web 2, which is in no link with another one.
@@ -174,6 +175,57 @@ def slow_is_stall(rows, house, word, index):
     return len(knowing) < len(rows[0]) and knowing == slow_knowing(rows, (*word, index), house)
 
 
+@functools.lru_cache(maxsize=None)
+def slow_view(rows, word, house):
+    """All that the house was told: from whom it heard in the last round, and what these had been told."""
+    if not word:
+        return ()
+    return tuple((other, slow_view(rows, word[:-1], other)) for other in sorted(hears(rows, word[-1], house)))
+
+
+def slow_views(rows, rounds):
+    """A dict from all words of so many rounds to the view of each house."""
+    houses = range(len(rows[0]))
+    return {word: tuple(slow_view(rows, word, house) for house in houses) for word in slow_words(len(rows), rounds)}
+
+
+def slow_shared(rows, one, other):
+    """The houses with equal views behind both words."""
+    houses = range(len(rows[0]))
+    return tuple(house for house in houses if slow_view(rows, one, house) == slow_view(rows, other, house))
+
+
+def slow_lots(rows, rounds):
+    """The lots, each by the words that are beside one of it, until there are no more."""
+    views = slow_views(rows, rounds)
+    left = list(views)
+    lots = []
+    while left:
+        lot = [left.pop(0)]
+        # It grows while it is gone through.
+        for word in lot:
+            met = [other for other in left if any(one == more for one, more in zip(views[word], views[other]))]
+            lot.extend(met)
+            left = [other for other in left if other not in met]
+        lots.append(tuple(sorted(lot)))
+    return tuple(sorted(lots))
+
+
+def slow_lot_heralds(rows, rounds):
+    found = []
+    for lot in slow_lots(rows, rounds):
+        heralds = [set(slow_heralds(rows, word)) for word in lot]
+        found.append(tuple(sorted(set.intersection(*heralds))))
+    return tuple(found)
+
+
+def slow_is_bar(rows, words):
+    """Whether the row of words of equal lengths is a bar."""
+    beside = all(slow_shared(rows, one, other) for one, other in zip(words, words[1:]))
+    heralds = [set(slow_heralds(rows, word)) for word in words]
+    return beside and not set.intersection(*heralds)
+
+
 def is_pure(value):
     """Whether the value has nothing but tuples and integers in it, True and False being none."""
     if isinstance(value, tuple):
@@ -206,3 +258,44 @@ def other_kinds(value):
         yield value[::-1]
     else:
         yield from (value - 1, value + 1, value + 2, bool(value), not value, 10 ** 60, -10 ** 99)
+
+
+def drawn_parts(size, states, many, chance):
+    """First states, up to so many moves, and decisions of a program, with moves that keep the decisions."""
+    decisions = {state: chance.randrange(2) for state in range(states) if chance.randrange(3) == 0}
+    starts = tuple((chance.randrange(states), chance.randrange(states)) for _ in range(size))
+    moves = {}
+    for _ in range(many):
+        heard = [chance.choice([None] + list(range(states))) for _ in range(size)]
+        state = chance.randrange(states)
+        heard[chance.randrange(size)] = state
+        later = [other for other in range(states) if state not in decisions or decisions.get(other) == decisions[state]]
+        moves[(state, tuple(heard))] = chance.choice(later)
+    return starts, moves, decisions
+
+
+def drawn_programs(seed, sizes, states, many):
+    """So many programs for each number of houses and of states, the same ones at each call."""
+    chance = random.Random(seed)
+    for size in sizes:
+        for number in states:
+            for _ in range(many):
+                yield Program(size, number, *drawn_parts(size, number, 12 * number, chance))
+
+
+def slow_next(starts_moves, rows, index, configuration):
+    """The configuration behind a round, where `starts_moves` has the moves of a program behind its first states."""
+    later = []
+    for house, state in enumerate(configuration):
+        heard = tuple(configuration[other] if other in hears(rows, index, house) else None for other in range(len(rows[0])))
+        later.append(starts_moves[1].get((state, heard), state))
+    return tuple(later)
+
+
+def slow_trail(program, rows, inputs, word):
+    """The configurations behind each number of rounds of the word."""
+    parts = (program.starts, program.moves)
+    trail = [tuple(pair[given] for pair, given in zip(parts[0], inputs))]
+    for index in word:
+        trail.append(slow_next(parts, rows, index, trail[-1]))
+    return trail

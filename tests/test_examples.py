@@ -5,7 +5,8 @@ import unittest
 
 from rootshared.base import pools, webs
 from rootshared.groups import groups, links
-from rootshared.words import words
+from rootshared.programs import programs, runs
+from rootshared.words import lots, views, words
 
 VALUES = """
 RIGHT = Web(((), (0,)))
@@ -50,7 +51,31 @@ WORDS = """
 [1, None, True, 3, ((0, 2), (1, 2))]
 """
 
-MODULES = (webs, pools, links, groups, words)
+VIEWS = """
+>>> [equal_views(LINE, (0,), (2,)), equal_views(LINE, (0, 1), (2, 1)), first_difference(LINE, (0, 0), (0, 2), 0), view_numbers(LINE, 1), view_counts(LINE, 2)]
+[(1,), (1,), 2, {(0,): (0, 0), (1,): (1, 1), (2,): (1, 0)}, (5, 5)]
+"""
+
+LOTS = """
+>>> [lots_of(LINE.part((0, 1)), 1), lots_of(LINE, 1), agree_in(STARS, 1), least_rounds(LINE), least_rounds(muted_pool(3)), least_rounds(LINE.part((0, 2)))]
+[(((0,),), ((1,),)), (((0,), (1,), (2,)),), True, None, 2, 1]
+>>> [lot_heralds(STARS, 1), is_bar(LINE, ((0,), (2,), (1,))), is_bar(LINE, ((0,), (1,))), lot_way(STARS, (0,), (1,)), least_rounds(Pool((silent_web(1),)))]
+[((0,), (1,), (2,)), True, False, None, 0]
+"""
+
+PROGRAMS = """
+>>> TELL = Program(2, 5, ((0, 1), (2, 2)), {(0, (0, None)): 3, (1, (1, None)): 4, (0, (0, 2)): 3, (1, (1, 2)): 4, (2, (0, 2)): 3, (2, (1, 2)): 4, (2, (3, 2)): 3, (2, (4, 2)): 4}, {3: 0, 4: 1})
+>>> [TELL.after(2, (1, 2)), TELL.after(2, (None, 2)), TELL.opposite().starts, len(TELL.without_move(2, (1, 2))), str(TELL), TELL.renumbered((1, 0)).starts]
+[4, 2, ((1, 0), (2, 2)), 7, 'program for 2 houses: 5 states, 8 moves', ((2, 2), (0, 1))]
+"""
+
+RUNS = """
+>>> run = Run(TELL, LINE, (1, 0))
+>>> [run.go(1), run.go(0), run.decisions, run.since, str(run), run.undo(many=2), bool(run)]
+[(4, 2), (4, 4), (1, 1), (1, 2), 'run of 2 houses: 2 rounds, 2 decided', (0, 1), True]
+"""
+
+MODULES = (webs, pools, links, groups, words, views, lots, programs, runs)
 
 
 def known_names():
@@ -83,6 +108,19 @@ class Examples(unittest.TestCase):
 
     def test_words(self):
         self.check(WORDS, 2)
+
+    def test_views(self):
+        self.check(VIEWS, 1)
+
+    def test_lots(self):
+        self.check(LOTS, 2)
+
+    def test_programs(self):
+        self.check(PROGRAMS, 2)
+
+    def test_runs(self):
+        # They use the program of the examples ahead of them.
+        self.check(PROGRAMS + RUNS, 4)
 
 
 if __name__ == "__main__":

@@ -5,8 +5,9 @@ import unittest
 
 from rootshared.base import pools, webs
 from rootshared.groups import groups, links
-from rootshared.words import words
-from tests.helpers import BOTH, LINE
+from rootshared.programs import programs, runs
+from rootshared.words import lots, views, words
+from tests.helpers import BOTH, LINE, TELL
 
 # A name behind a star is a keyword.
 FUNCTIONS = (
@@ -24,6 +25,14 @@ FUNCTIONS = (
     (words, "heard_by_all", "pool word"), (words, "product_web", "pool word"),
     (words, "first_round", "pool word house"), (words, "latest", "pool house"), (words, "stall", "pool house"),
     (words, "is_stall", "pool house value"),
+    (views, "equal_views", "pool one other"), (views, "first_difference", "pool one other house"),
+    (views, "view_numbers", "pool rounds"), (views, "view_counts", "pool rounds"),
+    (views, "same_sight", "pool rounds house word"),
+    (lots, "lots_of", "pool rounds"), (lots, "lot_heralds", "pool rounds"), (lots, "agree_in", "pool rounds"),
+    (lots, "bar", "pool rounds"), (lots, "is_bar", "pool value"), (lots, "least_rounds", "pool *most=3"),
+    (lots, "lot_way", "pool one other"),
+    (programs, "is_program", "size states value"),
+    (runs, "first_configuration", "program inputs"), (runs, "next_configuration", "program web configuration"),
 )
 
 CLASSES = (
@@ -38,6 +47,11 @@ CLASSES = (
     (groups, "Sieve", "pool", {"ban": "index", "let": "index", "undo": "*many=1", "twin": ""},
      "__init__ __bool__ __len__ __eq__ __str__"),
     (words, "Hearsay", "pool", {"go": "index", "undo": "*many=1", "twin": ""}, "__init__ __len__ __eq__ __str__"),
+    (programs, "Program", "size states starts moves decisions",
+     {"after": "state heard", "with_move": "state heard later", "without_move": "state heard", "opposite": "",
+      "turned": "numbers", "renumbered": "numbers"}, "__init__ __len__ __eq__ __str__"),
+    (runs, "Run", "program pool inputs", {"go": "index", "follow": "word", "undo": "*many=1", "twin": ""},
+     "__init__ __bool__ __len__ __eq__ __str__"),
 )
 
 ATTRIBUTES = (
@@ -45,9 +59,12 @@ ATTRIBUTES = (
     (lambda: pools.Pool((BOTH,)), "webs size roots always"),
     (lambda: groups.Sieve(LINE), "pool left verdict"),
     (lambda: words.Hearsay(LINE), "pool word known heralds"),
+    (lambda: programs.Program(1, 1, ((0, 0),), {}, {}), "size states starts moves decisions"),
+    (lambda: runs.Run(TELL, LINE, (0, 1)), "program pool inputs word configuration decisions since"),
 )
 
-CONSTANTS = ((pools, "MAX_WEBS", 8), (pools, "MAX_HOUSES", 5), (words, "MAX_ROUNDS", 12))
+CONSTANTS = ((pools, "MAX_WEBS", 8), (pools, "MAX_HOUSES", 5), (words, "MAX_ROUNDS", 12), (lots, "MAX_WORDS", 4096),
+             (programs, "MAX_STATES", 400), (programs, "MAX_MOVES", 4000))
 
 
 def parameters(call):
@@ -96,18 +113,25 @@ class Interface(unittest.TestCase):
 
     def test_kinds_of_values(self):
         self.assertIsInstance(BOTH.size, int)
-        sieve, hearsay = groups.Sieve(LINE), words.Hearsay(LINE)
+        sieve, hearsay, run = groups.Sieve(LINE), words.Hearsay(LINE), runs.Run(TELL, LINE, (0, 1))
         for value in (BOTH.heard, BOTH.roots, BOTH.parts, BOTH.parts[0], BOTH.hears(0), BOTH.reached(0), LINE.webs, LINE.roots,
                       LINE.roots[0], LINE.always, sieve.left, hearsay.word, hearsay.known, hearsay.known[0], hearsay.heralds,
-                      hearsay.go(0), hearsay.undo(), links.links_in(LINE, (0, 1, 2)),
+                      hearsay.go(0), hearsay.undo(), run.inputs, run.word, run.configuration, run.decisions, run.since,
+                      run.go(0), run.follow((0,)), run.undo(), TELL.starts, links.links_in(LINE, (0, 1, 2)),
                       links.parts_of(LINE, (0, 2)), links.linked_way(LINE, (0, 1, 2), 0, 2), groups.splitting(LINE),
                       groups.closed_groups(LINE), groups.obstacle(LINE), groups.agreement_paper(pools.star_pool(3)),
-                      words.known_inputs(LINE, (0,)), words.heard_by_all(LINE, (0,)), words.stall(LINE, 0)):
+                      words.known_inputs(LINE, (0,)), words.heard_by_all(LINE, (0,)), words.stall(LINE, 0),
+                      views.equal_views(LINE, (0,), (1,)), views.view_counts(LINE, 1), views.same_sight(LINE, 1, 0, (0,)),
+                      lots.lots_of(LINE, 1), lots.lots_of(LINE, 1)[0], lots.lot_heralds(LINE, 1), lots.bar(LINE, 1),
+                      lots.lot_way(LINE, (0,), (1,)), runs.first_configuration(TELL, (0, 1))):
             self.assertIs(value.__class__, tuple)
         for value in (sieve.verdict, sieve.ban(0), sieve.let(0), sieve.undo(), groups.can_agree(LINE),
-                      groups.is_closed(LINE, (0,)), links.alike(BOTH, BOTH, BOTH)):
+                      groups.is_closed(LINE, (0,)), links.alike(BOTH, BOTH, BOTH), lots.agree_in(LINE, 1)):
             self.assertIs(value.__class__, bool)
-        for value in (words.latest(LINE.part((0, 2)), 0), words.first_round(LINE, (0,), 0)):
+        for value in (TELL.moves, TELL.decisions, views.view_numbers(LINE, 1)):
+            self.assertIs(value.__class__, dict)
+        for value in (words.latest(LINE.part((0, 2)), 0), words.first_round(LINE, (0,), 0), lots.least_rounds(pools.star_pool(3)),
+                      views.first_difference(LINE, (0,), (1,), 0), TELL.after(0, (0, None)), TELL.size, TELL.states):
             self.assertIs(value.__class__, int)
 
 
