@@ -63,6 +63,12 @@ def imports_of(tree):
     return [node for node in ast.walk(tree) if isinstance(node, (ast.Import, ast.ImportFrom))]
 
 
+def starred_subscripts(tree):
+    """The rows of the subscripts with a star anywhere inside their brackets."""
+    found = [node for node in ast.walk(tree) if isinstance(node, ast.Subscript)]
+    return [node.lineno for node in found if any(isinstance(inner, ast.Starred) for inner in ast.walk(node.slice))]
+
+
 def bound_names(tree):
     """The names that are defined or assigned at module level, without those of imports."""
     names = []
@@ -245,6 +251,17 @@ class Language(unittest.TestCase):
                     for inner in ast.walk(node):
                         changed = isinstance(inner, (ast.Attribute, ast.Subscript)) and not isinstance(inner.ctx, ast.Load)
                         self.assertFalse(changed, (path, node.lineno))
+
+    def test_no_star_stands_in_a_subscript(self):
+        for path, tree in trees():
+            self.assertEqual(starred_subscripts(tree), [], path)
+
+    def test_stars_in_subscripts_are_found(self):
+        for row in ("x = d[(*w, 1)]", "d[(*w, 1)] = 2", "d[*w] = 1", "del d[0, (1, *w)]", "x = d[f(*w)]", "d[k][[*w][0]] += 1",
+                    "x = d[0:len([*w])]", "x: tuple[*w] = ()"):
+            self.assertEqual(starred_subscripts(ast.parse(f"k = 0\n{row}")), [2], row)
+        for row in ("d[w + (1,)] = (*w, 1)", "x = (*w, 1)[0]", "x = f(*w)[1]", "a, *b = d[0]", "x = [*w, d[0]]", "d[a * b] = {**d}"):
+            self.assertEqual(starred_subscripts(ast.parse(row)), [], row)
 
     def check_function(self, node, where):
         if node.name.startswith("__"):

@@ -74,7 +74,7 @@ def numbers_next(hearing, numbers):
     for word, told in numbers.items():
         for index, row in enumerate(hearing):
             views = [(heard, tuple([told[source] for source in heard])) for heard in row]
-            later[(*word, index)] = tuple([number_of(view, found[house]) for house, view in enumerate(views)])
+            later[word + (index,)] = tuple([number_of(view, found[house]) for house, view in enumerate(views)])
     return later
 
 
