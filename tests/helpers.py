@@ -4,10 +4,11 @@ import copy
 import itertools
 import unittest
 
-from rootshared.base.pools import Pool
-from rootshared.base.webs import Web
+from rootshared.base.pools import Pool, star_pool
+from rootshared.base.webs import Web, full_web, silent_web
 from rootshared.errors import InvalidNumber
 from rootshared.groups.groups import Sieve
+from rootshared.make.steering import Drive
 from rootshared.programs.programs import Program
 from rootshared.programs.runs import Run
 from rootshared.words.words import Hearsay
@@ -44,6 +45,7 @@ def odd_values():
     webs = [Web(((),)), Web(((), (0,))), Web(((2,), (), (0,))), Web(((1, 2, 3, 4), (), (), (), ()))]
     pools = [Pool((Web(((),)),)), Pool((RIGHT, LEFT)), Pool((Web(((), (), (0,))),))]
     made = [Sieve(LINE), Hearsay(LINE), TELL.opposite(), Run(TELL, LINE, (1, 0)), InvalidNumber(3)]
+    made.extend([Drive(TELL, LINE, (0, 2), (1, 0))])
     return [None, True, False, *numbers, *texts, *tuples, *lists, *dicts, *deep, *webs, *pools, *made]
 
 
@@ -102,6 +104,25 @@ def wrong_groups(pool):
 def wrong_words(pool):
     """Values that are no words of the pool with at most 12 webs."""
     return wrong_rows(len(pool.webs)) + [(0,) * 13, (0,) * 14, (0,) * 500, (len(pool.webs) - 1,) * 13]
+
+
+def wrong_programs():
+    return [value for value in odd_values() if not isinstance(value, Program)]
+
+
+def wrong_inputs(size):
+    """Values that are no tuples with 0 or 1 for each house."""
+    near = [(0,) * (size - 1), (0,) * (size + 1), [0] * size, (0,) * (size - 1) + (2,), (0,) * (size - 1) + (True,)]
+    near.extend([(False,) * size, (0,) * (size - 1) + (-1,), ("0",) * size, (None,) * size, "0" * size, dict.fromkeys(range(size), 0)])
+    right = {repr(row) for row in itertools.product((0, 1), repeat=size)}
+    return [value for value in near + odd_values() if repr(value) not in right]
+
+
+def wrong_pools_for(size):
+    """Values that are no pools on so many houses."""
+    found = [value for value in odd_values() + wrong_pools() if not isinstance(value, Pool) or value.size != size]
+    more = [star_pool(3), LINE, Pool((silent_web(1),)), Pool((full_web(5),))]
+    return found + [pool for pool in more if pool.size != size]
 
 
 def wrong_undos():

@@ -5,7 +5,8 @@ import unittest
 
 from rootshared.base import pools, webs
 from rootshared.groups import groups, links
-from rootshared.programs import programs, runs
+from rootshared.make import makers, steering
+from rootshared.programs import checks, programs, runs
 from rootshared.words import lots, views, words
 
 VALUES = """
@@ -75,7 +76,24 @@ RUNS = """
 [(4, 2), (4, 4), (1, 1), (1, 2), 'run of 2 houses: 2 rounds, 2 decided', (0, 1), True]
 """
 
-MODULES = (webs, pools, links, groups, words, views, lots, programs, runs)
+CHECKS = """
+>>> [is_right(TELL, LINE.part((0, 2))), slowest(TELL, LINE.part((0, 2))), configurations(TELL, LINE.part((0, 2)), (1, 0)), found_fault(TELL, LINE)[0]]
+[True, 1, ((1, 2), (4, 4)), 'round']
+>>> [is_fault(TELL, LINE, ("round", (1, 0), (1,), (1,))), is_fault(TELL, LINE, ("round", (1, 0), (), (1,))), len(right_paper(TELL, LINE.part((0, 2))))]
+[True, False, 4]
+"""
+
+MAKERS = """
+>>> [is_right(made_program(STARS, 1), STARS), slowest(made_program(muted_pool(3), 2), muted_pool(3)), is_right(herald_program(LINE.part((0, 2)), 0), LINE.part((0, 2)))]
+[True, 2, True]
+"""
+
+STEERING = """
+>>> [decisions_ahead(TELL, LINE, (1, 0), (0, 1, 2), ()), open_inputs(TELL, LINE, (0, 1, 2)), is_fault(TELL, LINE, driven_fault(TELL, LINE, (0, 1, 2))), str(Drive(TELL, LINE, (0, 2), (1, 0)))]
+[(1,), (), True, 'drive: 0 rounds, ahead 1']
+"""
+
+MODULES = (webs, pools, links, groups, words, views, lots, programs, runs, checks, makers, steering)
 
 
 def known_names():
@@ -121,6 +139,15 @@ class Examples(unittest.TestCase):
     def test_runs(self):
         # They use the program of the examples ahead of them.
         self.check(PROGRAMS + RUNS, 4)
+
+    def test_checks(self):
+        self.check(PROGRAMS + CHECKS, 4)
+
+    def test_makers(self):
+        self.check(MAKERS, 1)
+
+    def test_steering(self):
+        self.check(PROGRAMS + STEERING, 3)
 
 
 if __name__ == "__main__":

@@ -5,7 +5,8 @@ import unittest
 
 from rootshared.base import pools, webs
 from rootshared.groups import groups, links
-from rootshared.programs import programs, runs
+from rootshared.make import makers, steering
+from rootshared.programs import checks, programs, runs
 from rootshared.words import lots, views, words
 from tests.helpers import BOTH, LINE, TELL
 
@@ -33,6 +34,14 @@ FUNCTIONS = (
     (lots, "lot_way", "pool one other"),
     (programs, "is_program", "size states value"),
     (runs, "first_configuration", "program inputs"), (runs, "next_configuration", "program web configuration"),
+    (checks, "configurations", "program pool inputs"), (checks, "is_right", "program pool"),
+    (checks, "found_fault", "program pool"), (checks, "is_fault", "program pool value"),
+    (checks, "right_paper", "program pool"), (checks, "is_right_paper", "program pool value"),
+    (checks, "slowest", "program pool"), (makers, "made_program", "pool rounds"),
+    (makers, "herald_program", "pool house"), (steering, "decisions_ahead", "program pool inputs indices word"),
+    (steering, "is_open", "program pool inputs indices word"), (steering, "open_inputs", "program pool indices"),
+    (steering, "driven_fault", "program pool indices"), (steering, "open_word", "program pool indices rounds"),
+    (steering, "is_open_word", "program pool indices value"),
 )
 
 CLASSES = (
@@ -52,6 +61,8 @@ CLASSES = (
       "turned": "numbers", "renumbered": "numbers"}, "__init__ __len__ __eq__ __str__"),
     (runs, "Run", "program pool inputs", {"go": "index", "follow": "word", "undo": "*many=1", "twin": ""},
      "__init__ __bool__ __len__ __eq__ __str__"),
+    (steering, "Drive", "program pool indices inputs", {"go": "index", "keep": "*most=10", "undo": "*many=1", "twin": ""},
+     "__init__ __bool__ __len__ __eq__ __str__"),
 )
 
 ATTRIBUTES = (
@@ -61,10 +72,11 @@ ATTRIBUTES = (
     (lambda: words.Hearsay(LINE), "pool word known heralds"),
     (lambda: programs.Program(1, 1, ((0, 0),), {}, {}), "size states starts moves decisions"),
     (lambda: runs.Run(TELL, LINE, (0, 1)), "program pool inputs word configuration decisions since"),
+    (lambda: steering.Drive(TELL, LINE, (0, 2), (0, 1)), "group inputs word ahead choices"),
 )
 
 CONSTANTS = ((pools, "MAX_WEBS", 8), (pools, "MAX_HOUSES", 5), (words, "MAX_ROUNDS", 12), (lots, "MAX_WORDS", 4096),
-             (programs, "MAX_STATES", 400), (programs, "MAX_MOVES", 4000))
+             (programs, "MAX_STATES", 400), (programs, "MAX_MOVES", 4000), (checks, "MAX_CONFIGURATIONS", 20000))
 
 
 def parameters(call):
@@ -114,6 +126,7 @@ class Interface(unittest.TestCase):
     def test_kinds_of_values(self):
         self.assertIsInstance(BOTH.size, int)
         sieve, hearsay, run = groups.Sieve(LINE), words.Hearsay(LINE), runs.Run(TELL, LINE, (0, 1))
+        pair, drive = LINE.part((0, 2)), steering.Drive(TELL, LINE, (0, 2), (0, 1))
         for value in (BOTH.heard, BOTH.roots, BOTH.parts, BOTH.parts[0], BOTH.hears(0), BOTH.reached(0), LINE.webs, LINE.roots,
                       LINE.roots[0], LINE.always, sieve.left, hearsay.word, hearsay.known, hearsay.known[0], hearsay.heralds,
                       hearsay.go(0), hearsay.undo(), run.inputs, run.word, run.configuration, run.decisions, run.since,
@@ -123,16 +136,23 @@ class Interface(unittest.TestCase):
                       words.known_inputs(LINE, (0,)), words.heard_by_all(LINE, (0,)), words.stall(LINE, 0),
                       views.equal_views(LINE, (0,), (1,)), views.view_counts(LINE, 1), views.same_sight(LINE, 1, 0, (0,)),
                       lots.lots_of(LINE, 1), lots.lots_of(LINE, 1)[0], lots.lot_heralds(LINE, 1), lots.bar(LINE, 1),
-                      lots.lot_way(LINE, (0,), (1,)), runs.first_configuration(TELL, (0, 1))):
+                      lots.lot_way(LINE, (0,), (1,)), runs.first_configuration(TELL, (0, 1)),
+                      checks.configurations(TELL, LINE, (0, 1)), checks.found_fault(TELL, LINE), drive.group, drive.inputs,
+                      drive.word, drive.ahead, drive.choices, drive.go(0), drive.undo(), steering.open_inputs(TELL, LINE, (0,)),
+                      steering.decisions_ahead(TELL, LINE, (0, 1), (0,), ()), steering.driven_fault(TELL, LINE, (1,))):
             self.assertIs(value.__class__, tuple)
         for value in (sieve.verdict, sieve.ban(0), sieve.let(0), sieve.undo(), groups.can_agree(LINE),
-                      groups.is_closed(LINE, (0,)), links.alike(BOTH, BOTH, BOTH), lots.agree_in(LINE, 1)):
+                      groups.is_closed(LINE, (0,)), links.alike(BOTH, BOTH, BOTH), lots.agree_in(LINE, 1), checks.is_right(TELL, LINE),
+                      steering.is_open(TELL, LINE, (0, 1), (0,), ())):
             self.assertIs(value.__class__, bool)
-        for value in (TELL.moves, TELL.decisions, views.view_numbers(LINE, 1)):
+        for value in (TELL.moves, TELL.decisions, views.view_numbers(LINE, 1), checks.right_paper(TELL, pair)):
             self.assertIs(value.__class__, dict)
         for value in (words.latest(LINE.part((0, 2)), 0), words.first_round(LINE, (0,), 0), lots.least_rounds(pools.star_pool(3)),
-                      views.first_difference(LINE, (0,), (1,), 0), TELL.after(0, (0, None)), TELL.size, TELL.states):
+                      views.first_difference(LINE, (0,), (1,), 0), TELL.after(0, (0, None)), TELL.size, TELL.states,
+                      checks.slowest(TELL, pair), drive.keep()):
             self.assertIs(value.__class__, int)
+        for value in (makers.made_program(pair, 1), makers.herald_program(pair, 0)):
+            self.assertIs(value.__class__, programs.Program)
 
 
 if __name__ == "__main__":

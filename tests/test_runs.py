@@ -5,27 +5,20 @@ import random
 import unittest
 
 from rootshared.base.pools import Pool, chain_pool, star_pool
-from rootshared.base.webs import full_web, silent_web
+from rootshared.base.webs import silent_web
 from rootshared.errors import InvalidInputs, InvalidPool, InvalidProgram, InvalidWeb, InvalidWord, NothingToUndo
 from rootshared.programs.programs import Program
 from rootshared.programs.runs import Run, first_configuration, next_configuration
 from rootshared.words.views import equal_views
 from rootshared.words.words import known_inputs
 from tests.helpers import (BOTH, LEFT, LINE, RIGHT, SIXTY_DIGITS, TELL, Checks, is_index_row, odd_values, repr_of,
-                           wrong_numbers, wrong_pools, wrong_rows, wrong_undos, wrong_webs)
+                           wrong_inputs, wrong_numbers, wrong_pools_for, wrong_programs, wrong_rows, wrong_undos,
+                           wrong_webs)
 from tests.slow import drawn_pools, drawn_programs, rows_of, slow_trail, slow_words
 
-PROGRAMS = (InvalidProgram, [value for value in odd_values() if not isinstance(value, Program)])
+PROGRAMS = (InvalidProgram, wrong_programs())
 # House 0 tells its input; the others never decide.
 SILENT = Program(3, 4, ((0, 1), (2, 2), (2, 2)), {(0, (0, None, None)): 3}, {3: 0, 1: 1})
-
-
-def wrong_inputs(size):
-    """Values that are no tuples with 0 or 1 for each house."""
-    near = [(0,) * (size - 1), (0,) * (size + 1), [0] * size, (0,) * (size - 1) + (2,), (0,) * (size - 1) + (True,)]
-    near.extend([(False,) * size, (0,) * (size - 1) + (-1,), ("0",) * size, (None,) * size, "0" * size, dict.fromkeys(range(size), 0)])
-    right = {repr(row) for row in itertools.product((0, 1), repeat=size)}
-    return [value for value in near + odd_values() if repr(value) not in right]
 
 
 def wrong_configurations(size, states):
@@ -33,12 +26,6 @@ def wrong_configurations(size, states):
     near = [(0,) * (size - 1) + (states,), (0,) * (size - 1) + (-1,), (True,) * size, (0,) * (size + 1), (None,) * size]
     found = near + odd_values() + wrong_rows(states)
     return [value for value in found if not (is_index_row(value, states) and len(value) == size)]
-
-
-def wrong_pools_for(size):
-    other = star_pool(3) if size == 2 else LINE
-    found = [value for value in odd_values() + wrong_pools() if not isinstance(value, Pool) or value.size != size]
-    return found + [other, Pool((silent_web(1),)), Pool((full_web(5),))] if size not in (1, 5) else found + [other]
 
 
 def cases():

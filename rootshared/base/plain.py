@@ -1,4 +1,4 @@
-"""What plain values are: integers, indices, tuples of indices, and numbers of changes to take back."""
+"""Plain values: integers, indices, tuples of indices, rows of things, and numbers of changes to take back."""
 
 from rootshared.errors import InvalidNumber, NothingToUndo
 
@@ -36,6 +36,14 @@ def is_ascending(value, many):
 def is_order(value, many):
     """Whether the value is a tuple of all indices of so many things, each once."""
     return is_index_tuple(value, many) and sorted(value) == list(range(many))
+
+
+def rows_over(length, things):
+    """All tuples of so many of the things, in the order in which the things stand."""
+    rows = [()]
+    for _ in range(length):
+        rows = [(*row, thing) for row in rows for thing in things]
+    return rows
 
 
 def check_between(value, least, most):

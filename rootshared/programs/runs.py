@@ -1,16 +1,26 @@
 """Runs of programs, round by round."""
 
-from rootshared.base.plain import check_index, check_undo, is_between, is_index_tuple
+from rootshared.base.plain import check_index, check_undo, is_between, is_index_tuple, rows_over
 from rootshared.base.pools import check_pool_of
 from rootshared.base.webs import check_web
 from rootshared.errors import InvalidInputs, InvalidWord
 from rootshared.programs.programs import check_program
 
 
+def is_inputs(value, size):
+    """Whether the value is a tuple with 0 or 1 for each of so many houses."""
+    return isinstance(value, tuple) and len(value) == size and all([is_between(given, 0, 1) for given in value])
+
+
 def check_inputs(value, size):
     """Refuse what is no tuple with 0 or 1 for each of so many houses."""
-    if not isinstance(value, tuple) or len(value) != size or not all([is_between(given, 0, 1) for given in value]):
+    if not is_inputs(value, size):
         raise InvalidInputs("no tuple with 0 or 1 for each house")
+
+
+def all_inputs(size):
+    """All inputs of so many houses, ascending."""
+    return rows_over(size, (0, 1))
 
 
 def first_configuration(program, inputs):
@@ -24,10 +34,15 @@ def next_configuration(program, web, configuration):
     """The configuration behind a round with this web."""
     check_program(program)
     check_web(web, program.size)
-    if not is_index_tuple(configuration, program.states) or len(configuration) != program.size:
+    if not is_configuration(program, configuration):
         raise InvalidInputs("no tuple with a state of each house")
     rows = [heard_row(web, configuration, house) for house in range(program.size)]
     return tuple([program.after(state, heard) for state, heard in zip(configuration, rows)])
+
+
+def is_configuration(program, value):
+    """Whether the value is a tuple with a state of each house."""
+    return is_index_tuple(value, program.states) and len(value) == program.size
 
 
 def heard_row(web, configuration, house):

@@ -1,0 +1,1 @@
+"""Programs that are made, and programs that are driven."""
