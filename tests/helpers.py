@@ -6,11 +6,14 @@ import unittest
 
 from rootshared.base.pools import Pool, star_pool
 from rootshared.base.webs import Web, full_web, silent_web
+from rootshared.desk.desk import Desk
 from rootshared.errors import InvalidNumber
 from rootshared.groups.groups import Sieve
 from rootshared.make.steering import Drive
+from rootshared.pools.families import Gathering
 from rootshared.programs.programs import Program
 from rootshared.programs.runs import Run
+from rootshared.text.shell import Shell
 from rootshared.words.words import Hearsay
 
 RIGHT = Web(((), (0,)))
@@ -45,7 +48,7 @@ def odd_values():
     webs = [Web(((),)), Web(((), (0,))), Web(((2,), (), (0,))), Web(((1, 2, 3, 4), (), (), (), ()))]
     pools = [Pool((Web(((),)),)), Pool((RIGHT, LEFT)), Pool((Web(((), (), (0,))),))]
     made = [Sieve(LINE), Hearsay(LINE), TELL.opposite(), Run(TELL, LINE, (1, 0)), InvalidNumber(3)]
-    made.extend([Drive(TELL, LINE, (0, 2), (1, 0))])
+    made.extend([Drive(TELL, LINE, (0, 2), (1, 0)), Gathering(2), Desk(), Shell()])
     return [None, True, False, *numbers, *texts, *tuples, *lists, *dicts, *deep, *webs, *pools, *made]
 
 

@@ -4,9 +4,12 @@ import doctest
 import unittest
 
 from rootshared.base import pools, webs
+from rootshared.desk import desk
 from rootshared.groups import groups, links
 from rootshared.make import makers, steering
+from rootshared.pools import families
 from rootshared.programs import checks, programs, runs
+from rootshared.text import shell, texts
 from rootshared.words import lots, views, words
 
 VALUES = """
@@ -93,7 +96,23 @@ STEERING = """
 [(1,), (), True, 'drive: 0 rounds, ahead 1']
 """
 
-MODULES = (webs, pools, links, groups, words, views, lots, programs, runs, checks, makers, steering)
+FAMILIES = """
+>>> [agreeing_groups(LINE), greatest_agreeing(LINE), least_failing(LINE), strikes(LINE), strikes(STARS)]
+[((0,), (0, 1), (0, 2), (1,), (1, 2), (2,)), ((0, 1), (0, 2), (1, 2)), ((0, 1, 2),), ((0,), (1,), (2,)), ((),)]
+>>> gathering = Gathering(2)
+>>> [product_pool(Pool((RIGHT, LEFT))) == Pool((RIGHT, BOTH, LEFT)), gathering.put(RIGHT), gathering.put(BOTH), len(gathering), twin_numbers(Pool((RIGHT,)), Pool((LEFT,)))]
+[True, ((0,),), ((0,), (1,)), 2, (1, 0)]
+"""
+
+TEXTS = """
+>>> [write_pool(LINE), read_web("1,2 - 0").heard, read_pool("- 0 | 1 -") == LINE.part((0, 1)), write_web(silent_web(1))]
+['- 0 | 1 - | 1 0', ((1, 2), (), (0,)), True, '-']
+>>> shell = Shell()
+>>> [shell("enter line - 0 | 1 -"), shell("pin able line"), shell("add line 1 0"), shell("groups line"), shell("obstacle line"), shell("grade nobody"), len(shell)]
+['line - 1', 'none', 'refused able line', '0, 1', 'none', 'unknown nobody', 4]
+"""
+
+MODULES = (webs, pools, links, groups, words, views, lots, programs, runs, checks, makers, steering, families, desk, texts, shell)
 
 
 def known_names():
@@ -148,6 +167,12 @@ class Examples(unittest.TestCase):
 
     def test_steering(self):
         self.check(PROGRAMS + STEERING, 3)
+
+    def test_families(self):
+        self.check(FAMILIES, 3)
+
+    def test_texts_and_the_shell(self):
+        self.check(TEXTS, 3)
 
 
 if __name__ == "__main__":

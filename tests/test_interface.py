@@ -4,9 +4,12 @@ import inspect
 import unittest
 
 from rootshared.base import pools, webs
+from rootshared.desk import desk
 from rootshared.groups import groups, links
 from rootshared.make import makers, steering
+from rootshared.pools import families
 from rootshared.programs import checks, programs, runs
+from rootshared.text import shell, texts
 from rootshared.words import lots, views, words
 from tests.helpers import BOTH, LINE, TELL
 
@@ -42,6 +45,11 @@ FUNCTIONS = (
     (steering, "is_open", "program pool inputs indices word"), (steering, "open_inputs", "program pool indices"),
     (steering, "driven_fault", "program pool indices"), (steering, "open_word", "program pool indices rounds"),
     (steering, "is_open_word", "program pool indices value"),
+    (families, "agreeing_groups", "pool"), (families, "greatest_agreeing", "pool"), (families, "least_failing", "pool"),
+    (families, "strikes", "pool"), (families, "product_pool", "pool"), (families, "merged_pool", "one other"),
+    (families, "twin_numbers", "one other"), (families, "is_twin", "one other value"),
+    (texts, "write_web", "web"), (texts, "write_pool", "pool"), (texts, "write_program", "program"),
+    (texts, "read_web", "text"), (texts, "read_pool", "text"), (texts, "read_program", "text"),
 )
 
 CLASSES = (
@@ -63,6 +71,13 @@ CLASSES = (
      "__init__ __bool__ __len__ __eq__ __str__"),
     (steering, "Drive", "program pool indices inputs", {"go": "index", "keep": "*most=10", "undo": "*many=1", "twin": ""},
      "__init__ __bool__ __len__ __eq__ __str__"),
+    (families, "Gathering", "size", {"put": "web", "drop": "index", "undo": "*many=1", "twin": ""},
+     "__init__ __contains__ __len__ __eq__ __str__"),
+    (desk, "Desk", "",
+     {"enter": "name pool", "remove": "name", "add_web": "name web", "strike_web": "name index", "merge": "name one other",
+      "pin": "pin", "unpin": "pin", "trial": "*changes", "undo": "*many=1", "redo": "*many=1", "twin": ""},
+     "__init__ __getitem__ __contains__ __iter__ __len__ __eq__ __str__"),
+    (shell, "Shell", "", {"__call__": "command", "desk": ""}, "__init__ __len__ __str__"),
 )
 
 ATTRIBUTES = (
@@ -73,10 +88,13 @@ ATTRIBUTES = (
     (lambda: programs.Program(1, 1, ((0, 0),), {}, {}), "size states starts moves decisions"),
     (lambda: runs.Run(TELL, LINE, (0, 1)), "program pool inputs word configuration decisions since"),
     (lambda: steering.Drive(TELL, LINE, (0, 2), (0, 1)), "group inputs word ahead choices"),
+    (lambda: families.Gathering(2), "size webs groups"),
+    (lambda: desk.Desk(), "pools grades pins"),
 )
 
 CONSTANTS = ((pools, "MAX_WEBS", 8), (pools, "MAX_HOUSES", 5), (words, "MAX_ROUNDS", 12), (lots, "MAX_WORDS", 4096),
-             (programs, "MAX_STATES", 400), (programs, "MAX_MOVES", 4000), (checks, "MAX_CONFIGURATIONS", 20000))
+             (programs, "MAX_STATES", 400), (programs, "MAX_MOVES", 4000), (checks, "MAX_CONFIGURATIONS", 20000),
+             (desk, "MAX_POOLS", 8), (desk, "MAX_PINS", 8))
 
 
 def parameters(call):
@@ -84,7 +102,8 @@ def parameters(call):
     told = []
     for name, given in inspect.signature(call).parameters.items():
         keyword = given.kind is inspect.Parameter.KEYWORD_ONLY
-        told.append(f"*{name}={given.default}" if keyword else name)
+        rest = given.kind is inspect.Parameter.VAR_POSITIONAL
+        told.append(f"*{name}={given.default}" if keyword else f"*{name}" if rest else name)
     return " ".join(told)
 
 
@@ -127,6 +146,7 @@ class Interface(unittest.TestCase):
         self.assertIsInstance(BOTH.size, int)
         sieve, hearsay, run = groups.Sieve(LINE), words.Hearsay(LINE), runs.Run(TELL, LINE, (0, 1))
         pair, drive = LINE.part((0, 2)), steering.Drive(TELL, LINE, (0, 2), (0, 1))
+        gathering, table, line = families.Gathering(2), desk.Desk(), shell.Shell()
         for value in (BOTH.heard, BOTH.roots, BOTH.parts, BOTH.parts[0], BOTH.hears(0), BOTH.reached(0), LINE.webs, LINE.roots,
                       LINE.roots[0], LINE.always, sieve.left, hearsay.word, hearsay.known, hearsay.known[0], hearsay.heralds,
                       hearsay.go(0), hearsay.undo(), run.inputs, run.word, run.configuration, run.decisions, run.since,
@@ -139,13 +159,19 @@ class Interface(unittest.TestCase):
                       lots.lot_way(LINE, (0,), (1,)), runs.first_configuration(TELL, (0, 1)),
                       checks.configurations(TELL, LINE, (0, 1)), checks.found_fault(TELL, LINE), drive.group, drive.inputs,
                       drive.word, drive.ahead, drive.choices, drive.go(0), drive.undo(), steering.open_inputs(TELL, LINE, (0,)),
-                      steering.decisions_ahead(TELL, LINE, (0, 1), (0,), ()), steering.driven_fault(TELL, LINE, (1,))):
+                      steering.decisions_ahead(TELL, LINE, (0, 1), (0,), ()), steering.driven_fault(TELL, LINE, (1,)),
+                      families.agreeing_groups(LINE), families.greatest_agreeing(LINE), families.least_failing(LINE),
+                      families.strikes(LINE), families.twin_numbers(LINE, LINE), gathering.put(BOTH), gathering.webs,
+                      gathering.groups, gathering.drop(0), gathering.undo(), table.enter("a", LINE), table.enter("a", LINE),
+                      table.enter("a", pair)[0], table.pin(("able", "a")), table.pins, table.pins[0], table.trial(), table.undo(),
+                      table.redo(), table.merge("b", "a", "a"), table.remove("b"), table.unpin(("able", "a"))):
             self.assertIs(value.__class__, tuple)
         for value in (sieve.verdict, sieve.ban(0), sieve.let(0), sieve.undo(), groups.can_agree(LINE),
                       groups.is_closed(LINE, (0,)), links.alike(BOTH, BOTH, BOTH), lots.agree_in(LINE, 1), checks.is_right(TELL, LINE),
                       steering.is_open(TELL, LINE, (0, 1), (0,), ())):
             self.assertIs(value.__class__, bool)
-        for value in (TELL.moves, TELL.decisions, views.view_numbers(LINE, 1), checks.right_paper(TELL, pair)):
+        for value in (TELL.moves, TELL.decisions, views.view_numbers(LINE, 1), checks.right_paper(TELL, pair),
+                      table.pools, table.grades):
             self.assertIs(value.__class__, dict)
         for value in (words.latest(LINE.part((0, 2)), 0), words.first_round(LINE, (0,), 0), lots.least_rounds(pools.star_pool(3)),
                       views.first_difference(LINE, (0,), (1,), 0), TELL.after(0, (0, None)), TELL.size, TELL.states,
@@ -153,6 +179,8 @@ class Interface(unittest.TestCase):
             self.assertIs(value.__class__, int)
         for value in (makers.made_program(pair, 1), makers.herald_program(pair, 0)):
             self.assertIs(value.__class__, programs.Program)
+        for value in (line("names"), line(None), texts.write_pool(LINE), texts.write_program(TELL), str(line), str(drive)):
+            self.assertIs(value.__class__, str)
 
 
 if __name__ == "__main__":

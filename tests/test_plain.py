@@ -30,6 +30,11 @@ class Plain(Checks):
         self.assertIs(plain.is_ascending((0, SIXTY_DIGITS), HUNDRED_DIGITS), True)
         self.assertIs(plain.is_ascending((0, SIXTY_DIGITS + 1), HUNDRED_DIGITS), False)
 
+    def test_rows_of_things(self):
+        self.same(plain.rows_over(0, (0, 1)), [()])
+        self.same(plain.rows_over(2, (0, 1)), [(0, 0), (0, 1), (1, 0), (1, 1)])
+        self.same(plain.rows_over(1, "ab"), [("a",), ("b",)])
+
     def test_checks_refuse_what_is_out_of_the_limits(self):
         plain.check_between(SIXTY_DIGITS, 0, HUNDRED_DIGITS)
         plain.check_index(0, 1)

@@ -28,7 +28,7 @@ def made_program(pool, rounds):
     for house, view, word, known in sights[rounds]:
         for given in all_inputs(len(known)):
             numbers[(rounds, house, view, given)] = given[known.index(heralds[word])]
-    starts = [tuple([numbers[(0, house, 0, (given,))] for given in (0, 1)]) for house in range(pool.size)]
+    starts = [(numbers[(0, house, 0, (0,))], numbers[(0, house, 0, (1,))]) for house in range(pool.size)]
     moves = {}
     for passed in range(1, rounds + 1):
         add_moves(moves, pool, passed, sights[passed], numbers)

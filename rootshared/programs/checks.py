@@ -278,7 +278,7 @@ def fault_of(reach):
             found.append(fault)
             if is_short(fault):
                 return fault
-    return next(iter(found), None)
+    return found[0] if found else None
 
 
 def fault_by(program, pool, indices):

@@ -1,0 +1,1 @@
+"""Desks of pools."""

@@ -1,0 +1,1 @@
+"""Parts of pools, and pools that are put together."""

@@ -1,0 +1,1 @@
+"""Texts, and the shell."""
