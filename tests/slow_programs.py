@@ -215,3 +215,12 @@ def chasing_program():
             moves[(one, (2 * turn + other, one))] = next_one if turn == 0 else 8 + other
             moves[(zero, (zero, 8 + other))] = moves[(one, (8 + other, one))] = 8 + other
     return Program(2, 10, ((0, 1), (4, 5)), moves, {8: 0, 9: 1})
+
+
+def forking_program():
+    """A program for `COUNTING` by which house 0 alone decides: by web 0 first, it is open for one round more at most.
+
+    By web 1 first, both decisions stay ahead as long as web 0 comes.
+    """
+    moves = {(0, (0, None)): 1, (0, (0, 5)): 2, (1, (1, None)): 3, (1, (1, 5)): 4, (2, (2, 5)): 1}
+    return Program(2, 6, ((0, 0), (5, 5)), moves, {3: 0, 4: 1})

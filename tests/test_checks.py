@@ -202,6 +202,10 @@ class Limits(Checks):
             fault = found_fault(clock, Pool((RIGHT, BOTH)))
             self.assertEqual((fault[0], len(fault[2]), len(fault[3])), ("round", rounds + 1, 1))
             self.assertIs(is_fault(clock, Pool((RIGHT, BOTH)), fault), True)
+        # A ring of 900 webs is short enough, one of 901 is not.
+        for first, second, many in ((25, 36, 900), (17, 53, 1)):
+            clock = clock_program(first, second, {(3, (3, first + 3)): first + second}, {})
+            self.assertEqual(len(found_fault(clock, Pool((RIGHT, BOTH)))[3]), many)
 
     def test_a_fault_within_the_limit_is_found_if_there_is_one(self):
         # With low limits in the place of 900, as many programs have short faults beside longer ones.

@@ -363,7 +363,8 @@ class Pins(Checks):
         pins = [("within", "a", 1), ("able", "a"), ("never", "b"), ("part", "a", "b")]
         wrong = [("within", "a"), ("within", "a", 4), ("within", "a", -1), ("within", "a", True), ("within", "a", "1"), ("within", 1, "a"),
                  ("within", "a", 1, 1), ("within", "c", 1), ("within", "a", None), ("within", "a", 10 ** 60), ("able",), ("able", "c"),
-                 ("able", "a", "a"), ("able", "a", 1), ("never", "c"), ("never", "b", 0), ("part", "a", "a"), ("part", "a", "c"),
+                 ("able", "a", "a"), ("able", "a", "b"),
+                 ("never", "b", "a"), ("parts", "a", "b"), (1, "a", "b"), (None, "a", "b"), ("within", "a", "b"), ("able", "a", 1), ("never", "c"), ("never", "b", 0), ("part", "a", "a"), ("part", "a", "c"),
                  ("part", "c", "a"), ("part", "a"), ("part", "a", "b", "a"), ("part", "a", 1), ("Able", "a"), ("", "a"), (None, "a"),
                  ("able", ("a",)), ("able", ["a"]), ("part", "a", ["b"]), ["able", "a"], "able a", (), ("a",), ("a", "able"),
                  ("able", None), ("able", "A"), ("able", ""), ((), ()), (("able", "a"),), {"able": "a"}, ("within", ["a"], 1)]

@@ -16,7 +16,7 @@ from rootshared.programs.programs import Program
 from tests.helpers import (LINE, TELL, Checks, wrong_groups, wrong_inputs, wrong_numbers, wrong_pools_for, wrong_programs,
                            wrong_rows)
 from tests.slow import groups_of, near, rows_of, slow_closed, slow_common_roots, slow_trail
-from tests.slow_programs import (COUNTING, Walk, cases, chasing_program, counting_program, inputs_of, own_program,
+from tests.slow_programs import (COUNTING, Walk, cases, chasing_program, counting_program, forking_program, inputs_of, own_program,
                                  silent_program, slow_is_fault, slow_kinds, telling_program, walks_of)
 
 PROGRAMS = (InvalidProgram, wrong_programs())
@@ -182,6 +182,17 @@ class OpenWords(Checks):
             self.assertIs(is_open_word(CHASE, LINE, (0, 1), ((1, 1), word)), False)
             self.assertIs(is_open_word(CHASE, LINE, (0, 1), ((0, 1), word[:-1] + (1 - word[-1],))), False)
         self.assertIs(is_open_word(CHASE, LINE, (0, 1), ((0, 1), (0, 1) * 1000 + (0,))), False)
+
+    def test_webs_behind_which_it_does_not_stay_open(self):
+        fork = forking_program()
+        self.same(open_word(fork, COUNTING, (0, 1), 6), ((0, 0), (1, 0, 0, 0, 0, 0)))
+        self.same(open_word(fork, COUNTING, (0, 1), 200)[1], (1,) + (0,) * 199)
+        self.refused(InvalidOperation, open_word, fork, COUNTING, (1,), 0)
+        drive = Drive(fork, COUNTING, (0, 1), (0, 1))
+        self.same((drive.choices, drive.keep(), drive.word, drive.ahead, drive.choices), ((0, 1), 1, (0,), (0, 1), ()))
+        drive.undo()
+        drive.go(1)
+        self.same((drive.choices, drive.keep(), drive.word), ((0, 1), 10, (1,) + (0,) * 10))
 
     def test_values_near_open_words(self):
         value = ((0, 1), (0, 1, 0))

@@ -4,8 +4,8 @@ from rootshared.base.plain import check_between, is_plain_integer
 from rootshared.base.pools import check_group
 from rootshared.errors import InvalidNumber, InvalidOperation, InvalidWord
 from rootshared.groups.groups import spaced
-from rootshared.programs.checks import MOST_JUDGED, Reach, Rounds, check_program_and_pool, fault_by
-from rootshared.programs.checks import longest_walks, steps_back
+from rootshared.programs.checks import (MOST_JUDGED, Reach, Rounds, check_program_and_pool, fault_by, longest_walks,
+                                        steps_back)
 from rootshared.programs.runs import Run, check_inputs, first_configuration, is_inputs
 
 # How many webs an open word that is returned may have, and how many rounds are kept open at once.
@@ -74,7 +74,7 @@ def has_made(rounds, configuration, decision):
 
 
 def check_driven(program, pool, inputs, indices, word):
-    """Refuse what is none of these."""
+    """Refuse what is no program, pool, inputs, group or word of the group."""
     check_program_and_pool(program, pool)
     check_inputs(inputs, program.size)
     check_group(pool, indices)

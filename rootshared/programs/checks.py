@@ -186,7 +186,7 @@ def last_left(rounds, members):
 def knots_of(rounds, members):
     """A dict from the members through which a ring of members goes to their knots.
 
-    A knot are the members that reach one another through members; one of them stands for it.
+    The members of a knot reach one another through members; one of them stands for all.
     """
     back = steps_back(rounds, members)
     knots = {}

@@ -1,8 +1,8 @@
 """The shell: commands for a desk, and answers."""
 
 from rootshared.desk.desk import MOST_GRADED, Desk, is_name
-from rootshared.errors import InvalidNumber, InvalidOperation, InvalidPool, InvalidWeb, NothingToUndo, ParseError
-from rootshared.errors import Refused, TooMany, UnknownName
+from rootshared.errors import (InvalidNumber, InvalidOperation, InvalidPool, InvalidWeb, NothingToUndo, ParseError,
+                               Refused, TooMany, UnknownName)
 from rootshared.groups.groups import can_agree, closed_groups, obstacle, spaced
 from rootshared.text.texts import MOST_DIGITS, is_number_text, read_pool, read_web, write_pool
 
